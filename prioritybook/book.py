@@ -36,3 +36,15 @@ class Book:
         self.closed_days = {}
         self.papers = {}
         self.deeds = {}
+        self.forget()
+
+    def forget(self):
+        """What was found before is to be found anew, for something became known."""
+        # Kept because one question may ask the same for each box of each paper, and a limit may be a long walk.
+        # Limits are found by the papers' dates, firsts by the papers' numbers and the boxes.
+        self.limits = {}
+        self.firsts = {}
+
+
+def discloses_all(paper, boxes):
+    return all([box in paper.boxes for box in boxes])

@@ -1,8 +1,9 @@
 """The calls 0 to 9: each keeps in the book what became known, or refuses."""
 
-from prioritybook.book import Deed, Paper
+from prioritybook.book import Deed, Paper, discloses_all
 from prioritybook.boxes import are_boxes, are_leaves, are_weekdays, boxes_in
 from prioritybook.dates import is_date
+from prioritybook.ranges import is_number, is_somebody
 from prioritybook.refusals import BAD_LIST, DOES_NOT_FIT, FULL, NOTHING_TO_CHANGE, NO_DATE, NO_PAPER
 from prioritybook.refusals import NUMBER_TAKEN, OUT_OF_RANGE
 
@@ -10,19 +11,6 @@ MOST_CLOSED_DAYS = 200
 MOST_PAPERS = 24
 MOST_NAMES = 8
 MOST_DEEDS = 40
-
-
-def is_number(number):
-    """Whether a new paper or deed may bear the number."""
-    return 1 <= number <= 999
-
-
-def is_somebody(who):
-    return 1 <= who <= 20
-
-
-def discloses_all(paper, boxes):
-    return all([box in paper.boxes for box in boxes])
 
 
 def set_field(book, row):

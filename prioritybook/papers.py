@@ -53,6 +53,7 @@ def calls_in(line):
 
 def answer(book, call, numbers, row):
     if call < FIRST_ASKING:
+        book.forget()
         return keep(book, call, numbers, row)
     return ask(book, call, numbers, row)
 

@@ -1,6 +1,5 @@
 """The numbers that a refused call answers."""
 
-NO_CALL = -100
 OUT_OF_RANGE = -3
 NO_DATE = -2
 BAD_LIST = -4
